@@ -1,0 +1,1 @@
+"""Atmost: heights of which it is told by how much one is above another at the most."""
