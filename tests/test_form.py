@@ -23,7 +23,7 @@ def nodes():
 class Form(unittest.TestCase):
     def test_the_files_are_there(self):
         names = [path.name for path in PACKAGE.glob("*.py")]
-        for name in ("__init__.py", "errors.py", "sayings.py", "answers.py"):
+        for name in ("__init__.py", "errors.py", "sayings.py", "answers.py", "walks.py", "telling.py", "ends.py"):
             self.assertIn(name, names)
 
     def test_imports_are_the_package_own(self):

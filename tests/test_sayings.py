@@ -2,30 +2,10 @@ import copy
 
 from atmost.errors import BadCount, BadNumber, BadPlace, BadSayings
 from atmost.sayings import kept, sum_of
-from odd import HUGE, Case, Prickly, no_lists, no_numbers
+from odd import HUGE, Case, Prickly, bad_counts, bad_places, bad_sayings, no_lists, no_numbers
 
 # 0 -> 1 -> 2 -> 0, one more from 0 to 1, and one from 2 to itself.
 SAYINGS = [(0, 1, 5), (1, 2, -3), (2, 0, 4), (0, 1, 7), (2, 2, 1)]
-
-
-def bad_sayings():
-    """Each is no list of sayings on three places, for one cause alone."""
-    wrong = [[saying] for saying in no_lists()]
-    wrong += [[[0, 1, 5]], [()], [(0,)], [(0, 1)], [(0, 1, 5, 5)], ["015"], [{0: 0, 1: 1, 2: 2}]]
-    wrong += [[(-1, 1, 5)], [(0, -1, 5)], [(3, 1, 5)], [(0, 3, 5)], [(HUGE, 1, 5)], [(0, -HUGE, 5)]]
-    for value in no_numbers():
-        wrong += [[(value, 1, 5)], [(0, value, 5)], [(0, 1, value)]]
-    wrong += [[(0, 1, 5), (1, 2, 3), (1, 2)], [(0, 1), (1, 2, 3)], [(0, 1, 5), [(0, 1, 5)]]]
-    return no_lists() + wrong
-
-
-def bad_counts():
-    return no_numbers() + [0, -1, -3, -HUGE]
-
-
-def bad_places():
-    """Of three places."""
-    return no_numbers() + [-1, -3, 3, 4, HUGE, -HUGE]
 
 
 def bad_heights():
